@@ -1,0 +1,1 @@
+"""A loss shared out unit by unit: a clearing house's waterfall."""
