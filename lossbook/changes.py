@@ -130,7 +130,6 @@ def close_event(house):
     house.unpaid += uncovered
     house.members.pop(defaulter.key)
     house.defaulter = None
-    house.loss = 0
     return [uncovered, margin_left, fund_left]
 
 

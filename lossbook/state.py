@@ -11,8 +11,6 @@ class Member:
 
 
 class House:
-    """A new house. An event is open just while there is a defaulter, which is one of the members."""
-
     def __init__(self):
         self.members = {}
         self.first = 0
@@ -20,5 +18,6 @@ class House:
         self.multiple = 0
         self.called = 0
         self.unpaid = 0
+        # An event is open just while there is a defaulter, which is still one of the members; the loss is its.
         self.defaulter = None
         self.loss = 0
