@@ -4,8 +4,11 @@ from lossbook.limits import LAST_LAYER
 from lossbook.units import Bearer
 from lossbook.units import room_of
 from lossbook.units import shares_after
+from lossbook.units import taker_of
 
 HOUSE_KEY = 0
+# The layer and the key that are told of a unit behind the last layer.
+NOBODY = (8, 0)
 
 
 def other_members(house):
@@ -34,6 +37,14 @@ def most_of_member(house, k, member):
     return member.gain
 
 
+def bearer_of(house, k, key):
+    """The bearer of that key in layer k, or None."""
+    for bearer in bearers_of(house, k):
+        if bearer.key == key:
+            return bearer
+    return None
+
+
 def room_at(house, k):
     return room_of(bearers_of(house, k))
 
@@ -60,3 +71,20 @@ def uncovered_at(house, loss):
 def shares_at(house, k, loss):
     """The share in layer k of each bearer's key at the loss, by rising keys."""
     return shares_after(bearers_of(house, k), borne_at(house, k, loss))
+
+
+def share_at(house, k, key, loss):
+    """The share in layer k of one bearer's key at the loss."""
+    return shares_at(house, k, loss)[key]
+
+
+def taker_of_unit(house, unit):
+    """The layer and the key of the unit's bearer."""
+    place = unit
+    for k in range(1, LAST_LAYER + 1):
+        bearers = bearers_of(house, k)
+        room = room_of(bearers)
+        if place <= room:
+            return (k, taker_of(bearers, place))
+        place = place - room
+    return NOBODY

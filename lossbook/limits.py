@@ -34,5 +34,14 @@ def is_some_units(amount):
     return 1 <= amount <= MOST_LOSS
 
 
+def is_loss(amount):
+    return 0 <= amount <= MOST_LOSS
+
+
+def is_share_list(given):
+    """A layer has no more bearers than there may be members."""
+    return len(given) <= MOST_MEMBERS and all([is_loss(number) for number in given])
+
+
 def is_layer(k):
     return 1 <= k <= LAST_LAYER

@@ -17,13 +17,25 @@ def room_of(bearers):
 
 def shares_after(bearers, units):
     """The share of each bearer's key after so many units of the layer, by rising keys."""
-    weighted = [bearer for bearer in bearers if bearer.weight > 0]
-    # The one given least comes first among those of weight 0, as it would if each had the weight 1.
-    weightless = [Bearer(bearer.key, 1, bearer.most) for bearer in bearers if bearer.weight == 0]
+    weighted = weighted_of(bearers)
     by_weight = min(units, room_of(weighted))
     given = given_by_weight(weighted, by_weight)
-    given.update(given_by_weight(weightless, units - by_weight))
+    given.update(given_by_weight(weightless_of(bearers), units - by_weight))
     return dict([(bearer.key, given[bearer.key]) for bearer in bearers])
+
+
+def weighted_of(bearers):
+    return [bearer for bearer in bearers if bearer.weight > 0]
+
+
+def weightless_of(bearers):
+    """Those of weight 0, who have their turn when the others are full."""
+    return [with_weight_1(bearer) for bearer in bearers if bearer.weight == 0]
+
+
+def with_weight_1(bearer):
+    # The one given least comes first among those of weight 0, as it would if each had the weight 1.
+    return Bearer(bearer.key, 1, bearer.most)
 
 
 def given_by_weight(bearers, units):
@@ -78,3 +90,33 @@ def next_taker(bearers, given):
 def comes_before(one, other, given):
     # Multiplied crosswise, for the fractions are exact.
     return (given[one.key] + 1) * other.weight < (given[other.key] + 1) * one.weight
+
+
+def taker_of(bearers, unit):
+    """The key of the bearer whose the layer's unit is."""
+    before = shares_after(bearers, unit - 1)
+    after = shares_after(bearers, unit)
+    # Of two numbers of units one apart just one share differs.
+    return [key for key in after if after[key] != before[key]][0]
+
+
+def place_of(bearers, bearer, share):
+    """Which of the layer's units it is that brings the bearer to the share, which is at most its most."""
+    weighted = weighted_of(bearers)
+    if bearer.weight > 0:
+        return place_by_weight(weighted, bearer, share)
+    return room_of(weighted) + place_by_weight(weightless_of(bearers), with_weight_1(bearer), share)
+
+
+def place_by_weight(bearers, bearer, share):
+    """The place among units of bearers whose weights are not 0."""
+    return sum([min(other.most, units_up_to(other, bearer, share)) for other in bearers])
+
+
+def units_up_to(other, bearer, share):
+    """How many units the other would have, had it no most, when the bearer gets the last unit of the share."""
+    crosswise = share * other.weight
+    if other.key > bearer.key:
+        # Its unit at the very same fraction comes later.
+        crosswise = crosswise - 1
+    return crosswise // bearer.weight

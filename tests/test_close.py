@@ -1,9 +1,7 @@
-"""Everything that close changes, one thing after another."""
+"""What close changes, one thing after another, as the next event shows it; what heaps shows stands in test_looks."""
 
 import unittest
 
-from lossbook.changes import add_member, close_event, lose_units, open_event, set_house
-from lossbook.state import House
 from tests.helper import (begin, change, close, house, last, layer, look, lose, member, recover, run, share, shares)
 
 # Rooms: 5, 4, 3, 8 (6 and 2), 16 (12 and 4), 8 (3 and 5), 4: 48 together.
@@ -109,24 +107,6 @@ class HousePays(unittest.TestCase):
 
     def test_its_multiple_stays(self):
         self.assertEqual(after_close(60, change(30, 2, 7), begin(20), layer(5))[2:], [[14, 0]])
-
-    def test_what_was_called_and_what_stayed_unpaid_add_up(self):
-        # No call shows these two sums yet, so the object is looked at.
-        kept = House()
-        self.assertEqual([kept.called, kept.unpaid], [0, 0])
-        for key in (1, 2, 3):
-            add_member(kept, key, 1, 2, 3, 1)
-        set_house(kept, 1, 1, 2)
-        open_event(kept, 1)
-        lose_units(kept, 4 + 4 + 7)
-        self.assertEqual(close_event(kept), [0, 0, 0])
-        self.assertEqual([kept.called, kept.unpaid], [7, 0])
-        add_member(kept, 4, 0, 5, 0, 1)
-        open_event(kept, 2)
-        lose_units(kept, 1000)
-        # Layers 1 to 7 have 1, 0, 0, 5, 10, 3 and 1.
-        self.assertEqual(close_event(kept), [980, 0, 0])
-        self.assertEqual([kept.called, kept.unpaid], [17, 980])
 
 
 class Again(unittest.TestCase):

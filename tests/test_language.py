@@ -80,7 +80,7 @@ class Language(unittest.TestCase):
             drawn[path.stem] = []
             for node in ast.walk(tree):
                 if isinstance(node, ast.ImportFrom):
-                    self.assertRegex(node.module, r"\Alossbook\.[a-z]+\Z")
+                    self.assertRegex(node.module, r"\Alossbook\.[a-z0-9_]+\Z")
                     self.assertEqual([alias.asname for alias in node.names], [None] * len(node.names))
                     stem = node.module.split(".")[1]
                     drawn[path.stem].append(stem)

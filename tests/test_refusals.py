@@ -2,8 +2,9 @@
 
 import unittest
 
-from tests.helper import (ARGUMENT, KEY, LOSS, MONEY, MULTIPLE, WEIGHT, begin, change, close, house, last, layer, look,
-                          lose, member, recover, run, share, shares)
+from tests.helper import (ARGUMENT, KEY, LOSS, MONEY, MULTIPLE, WEIGHT, at, begin, between, change, check, close, fair,
+                          heaps, house, last, layer, look, look_closely, lose, member, members, next_unit, person,
+                          recover, run, run_in_lines, share, shares, until, who)
 
 TWO = [member(10, 5, 4, 9, 2), member(20, 7, 6, 3, 1), house(3, 4, 2)]
 TWELVE = [member(key, 2, 3, 4, key) for key in range(1, 13)]
@@ -23,7 +24,18 @@ RANGES = [
     (EVENT, layer(1), [(1, 7)]),
     (EVENT, share(1, 10), [(1, 7), (0, KEY)]),
     (EVENT, shares(1), [(1, 7)]),
+    (EVENT, person(10), [(0, KEY)]),
+    (EVENT, who(1), [(1, LOSS)]),
+    (EVENT, at(1, 1, 10), [(0, LOSS), (1, 7), (0, KEY)]),
+    (EVENT, until(1, 10, 1), [(1, 7), (0, KEY), (1, LOSS)]),
+    (EVENT, between(0, LOSS, 1, 10), [(0, LOSS), (0, LOSS), (1, 7), (0, KEY)]),
+    (EVENT, between(7, 8, 1, 10), [(0, 8), (7, LOSS), (1, 7), (0, KEY)]),
+    (EVENT, between(LOSS, LOSS, 4, 20), [(0, LOSS), (LOSS, LOSS), (1, 7), (0, KEY)]),
+    (EVENT, between(0, 0, 4, 20), [(0, 0), (0, LOSS), (1, 7), (0, KEY)]),
+    (EVENT, fair(1, 10), [(1, 7), (0, KEY)]),
 ]
+# check's third number is its list's length, so the others have tests of their own.
+LONGEST_LIST = 12
 
 
 def with_argument(call, place, number):
@@ -60,6 +72,55 @@ class Ranges(unittest.TestCase):
         self.assertEqual(run(*TWO, *calls)[3:], [[0], [0], [0], [-1]])
 
 
+class RangesOfCheck(unittest.TestCase):
+    def check(self, k, n, given, answered):
+        with self.subTest(k=k, n=n, given=given):
+            self.assertEqual(last(*EVENT, check(k, n, given)), [answered])
+
+    def test_the_layer(self):
+        for k in (-ARGUMENT, -1, 0, 8, ARGUMENT):
+            self.check(k, 0, [0], -1)
+        for k in range(1, 8):
+            self.check(k, 0, [0], 1)
+
+    def test_the_number_of_units(self):
+        for n in (-ARGUMENT, -1, LOSS + 1, ARGUMENT):
+            self.check(1, n, [0], -1)
+        self.check(1, 0, [0], 1)
+        self.check(1, LOSS, [0], 0)
+
+    def test_the_length_of_the_list(self):
+        for length in range(LONGEST_LIST + 1):
+            self.check(4, 0, [0] * length, 1 if length == 1 else 0)
+        for length in range(LONGEST_LIST + 1, 21):
+            self.check(4, 0, [0] * length, -1)
+
+    def test_each_number_of_the_list(self):
+        for length in (1, 2, LONGEST_LIST):
+            for place in range(length):
+                for number, answered in ((-ARGUMENT, -1), (-1, -1), (LOSS, 0), (LOSS + 1, -1), (ARGUMENT, -1)):
+                    given = [0] * length
+                    given[place] = number
+                    self.check(4, 0, given, answered)
+
+    def test_twelve_bearers_there_never_are(self):
+        eleven = TWELVE + [begin(1)]
+        self.assertEqual(run(*eleven, check(4, 0, [0] * 11), check(4, 0, [0] * 12), check(4, 0, [0] * 13))[13:],
+                         [[1], [0], [-1]])
+        self.assertEqual(last(*eleven, check(4, 33, [3] * 11)), [1])
+
+
+class RangeOfBetween(unittest.TestCase):
+    def test_b_below_a(self):
+        for a in (1, 2, 5, 14, 15, LOSS):
+            told = run(*EVENT, between(a, a - 1, 1, 10), between(a, 0, 1, 10), between(a, a, 1, 10))[5:]
+            self.assertEqual(told, [[-1], [-1], [0]])
+
+    def test_both_outside(self):
+        for a, b in ((-1, -1), (-1, 0), (-ARGUMENT, ARGUMENT), (LOSS + 1, LOSS + 1), (LOSS + 1, LOSS + 2)):
+            self.assertEqual(last(*EVENT, between(a, b, 1, 10)), [-1])
+
+
 class Refusals(unittest.TestCase):
     def test_member_that_is_there(self):
         self.assertEqual(last(*TWO, member(20)), [-2])
@@ -83,22 +144,43 @@ class Refusals(unittest.TestCase):
         self.assertEqual(seen, [[-6], [2, 0], [-6], [0, 2], [-6]])
 
     def test_no_event_is_open(self):
-        calls = [lose(1), recover(1), close(), layer(1), share(1, 10), shares(1)]
-        self.assertEqual(run(*TWO, *calls)[3:], [[-7]] * 6)
-        self.assertEqual(run(*EVENT, close(), *calls)[6:], [[-7]] * 6)
-        self.assertEqual(run(*calls), [[-7]] * 6)
+        calls = [lose(1), recover(1), close(), layer(1), share(1, 10), shares(1), person(10), person(0), who(1),
+                 at(0, 1, 10), until(1, 10, 1), next_unit(), between(0, 1, 1, 10), check(1, 0, [0]), check(4, 0, []),
+                 fair(1, 10)]
+        refused = [[-7]] * len(calls)
+        self.assertEqual(run(*TWO, *calls)[3:], refused)
+        self.assertEqual(run(*EVENT, close(), *calls)[6:], refused)
+        self.assertEqual(run(*calls), refused)
+
+    def test_heaps_and_members_are_never_refused(self):
+        for ahead in ([], TWO, TWELVE, EVENT, EVENT + [lose(LOSS - 14)], EVENT + [close()]):
+            for told in run(*ahead, heaps(), members())[-2:]:
+                self.assertGreaterEqual(min(told), 0)
 
     def test_no_bearer_of_that_key_in_that_layer(self):
         for k in range(1, 8):
             bearers = {1: [10], 2: [10], 3: [0], 4: [20], 5: [20], 6: [20], 7: [0]}[k]
             for key in (0, 10, 20, 30, KEY):
-                with self.subTest(k=k, key=key):
-                    answered = last(*EVENT, share(k, key))
-                    self.assertEqual(answered == [-8], key not in bearers)
+                for call in (share(k, key), at(14, k, key), until(k, key, 1), between(0, 14, k, key), fair(k, key)):
+                    with self.subTest(call=call):
+                        self.assertEqual(last(*EVENT, call) == [-8], key not in bearers)
 
     def test_no_bearers_at_all(self):
-        seen = run(member(10), begin(10), *[share(k, key) for k in (4, 5, 6) for key in (0, 10)])[2:]
-        self.assertEqual(seen, [[-8]] * 6)
+        calls = [call for k in (4, 5, 6) for key in (0, 10) for call in (
+            share(k, key), at(0, k, key), until(k, key, 1), between(0, 1, k, key), fair(k, key))]
+        self.assertEqual(run(member(10), begin(10), *calls)[2:], [[-8]] * 30)
+
+    def test_person_that_is_no_member(self):
+        self.assertEqual(run(*EVENT, *[person(key) for key in (0, 1, 9, 10, 11, 20, 30, KEY)])[5:],
+                         [[3], [-4], [-4], [9], [-4], [2], [-4], [-4]])
+
+    def test_until_more_than_the_most(self):
+        mosts = {(1, 10): 5, (2, 10): 4, (3, 0): 3, (4, 20): 6, (5, 20): 12, (6, 20): 3, (7, 0): 4}
+        for (k, key), most in mosts.items():
+            told = run(*EVENT, *[until(k, key, m) for m in (most, most + 1, most + 2, LOSS)])[5:]
+            self.assertEqual(told[1:], [[-3]] * 3)
+            self.assertGreater(told[0][0], 0)
+        self.assertEqual(last(member(10), begin(10), until(1, 10, 1)), [-3])
 
 
 class ToldFirst(unittest.TestCase):
@@ -150,6 +232,41 @@ class ToldFirst(unittest.TestCase):
         self.check(TWO, share(1, 30), -7)
         self.check(TWO, share(3, 10), -7)
 
+    def test_person(self):
+        for key in (-1, KEY + 1):
+            self.check(TWO, person(key), -1)
+            self.check(EVENT, person(key), -1)
+        self.check(TWO, person(30), -7)
+        self.check(EVENT, person(30), -4)
+
+    def test_who_and_check(self):
+        for call in (who(0), who(LOSS + 1), check(0, 0, []), check(8, 0, []), check(1, -1, []), check(1, LOSS + 1, []),
+                     check(1, 0, [-1]), check(1, 0, [LOSS + 1]), check(1, 0, [0] * 13), check(1, 0, [0] * 20)):
+            self.check(TWO, call, -1)
+            self.check(EVENT, call, -1)
+        self.check(TWO, check(4, 99, [1, 2, 3]), -7)
+
+    def test_at_until_between_and_fair_look_at_all_their_ranges_first(self):
+        # Key 30 bears nowhere and key 10 not in layer 3, so that -8 would be due too.
+        outside = [at(-1, 1, 30), at(LOSS + 1, 3, 10), at(0, 0, 30), at(0, 8, 10), at(0, 1, -1), at(0, 3, KEY + 1),
+                   until(0, 30, 1), until(8, 10, 1), until(1, -1, 1), until(3, KEY + 1, 1), until(1, 30, 0),
+                   until(3, 10, LOSS + 1), between(1, 0, 1, 30), between(-1, 0, 3, 10), between(0, LOSS + 1, 1, 30),
+                   between(LOSS + 1, LOSS + 1, 3, 10), between(0, 0, 0, 30), between(0, 0, 8, 10),
+                   between(0, 0, 1, -1), between(0, 0, 3, KEY + 1), fair(0, 30), fair(8, 10), fair(1, -1),
+                   fair(3, KEY + 1)]
+        for call in outside:
+            self.check(TWO, call, -1)
+            self.check(EVENT, call, -1)
+        for call in (at(0, 1, 30), until(1, 30, 1), until(3, 10, LOSS), between(0, 0, 3, 10), fair(3, 10)):
+            self.check(TWO, call, -7)
+            self.check(EVENT, call, -8)
+
+    def test_until_looks_for_the_bearer_ahead_of_its_most(self):
+        self.check(EVENT, until(1, 30, LOSS), -8)
+        self.check(EVENT, until(4, 10, 7), -8)
+        self.check(EVENT, until(4, 20, 7), -3)
+        self.check(TWO, until(4, 20, LOSS), -7)
+
 
 class NothingChanges(unittest.TestCase):
     def check(self, ahead, refused, behind):
@@ -166,8 +283,11 @@ class NothingChanges(unittest.TestCase):
                    (house(9, 9, 11), -1), (house(MONEY + 1, 9, 9), -1), (change(30, 2, 9), -4),
                    (change(20, 2, MONEY + 1), -1), (change(20, 5, 9), -1), (change(20, 0, 9), -1),
                    (change(20, 4, WEIGHT + 1), -1), (begin(30), -4), (begin(0), -1), (lose(9), -7), (recover(9), -7),
-                   (close(), -7), (layer(1), -7), (share(1, 10), -7), (shares(1), -7)]
-        behind = [member(30, 1, 2, 3, 4), begin(20), *look(), lose(25), *look(), close(), begin(10), *look()]
+                   (close(), -7), (layer(1), -7), (share(1, 10), -7), (shares(1), -7), (person(10), -7), (who(9), -7),
+                   (at(9, 1, 10), -7), (until(1, 10, 9), -7), (next_unit(), -7), (between(0, 9, 1, 10), -7),
+                   (check(1, 9, [5]), -7), (fair(1, 10), -7), (who(0), -1), (check(1, 0, [9] * 13), -1)]
+        behind = [heaps(), members(), member(30, 1, 2, 3, 4), heaps(), members(), begin(20), *look(), lose(25), *look(),
+                  close(), heaps(), members(), begin(10), *look()]
         self.check(TWO, refused, behind)
 
     def test_while_an_event_is_open(self):
@@ -175,9 +295,12 @@ class NothingChanges(unittest.TestCase):
                    (change(10, 1, 99), -5), (change(20, 2, 99), -5), (change(20, 3, 99), -5), (change(20, 4, 0), -5),
                    (begin(20), -5), (begin(10), -5), (lose(0), -1), (lose(LOSS), -6), (lose(LOSS - 13), -6),
                    (recover(0), -1), (recover(15), -6), (recover(LOSS), -6), (layer(0), -1), (share(1, 20), -8),
-                   (shares(8), -1)]
-        behind = [*look(), recover(2), *look(), lose(7), *look(), close(), begin(20), *look(), close(), member(30),
-                  begin(30), *look()]
+                   (shares(8), -1), (person(30), -4), (person(-1), -1), (who(0), -1), (at(-1, 1, 10), -1),
+                   (at(99, 1, 20), -8), (until(1, 10, 6), -3), (until(1, 20, 1), -8), (until(1, 10, 0), -1),
+                   (between(9, 8, 1, 10), -1), (between(8, 9, 1, 20), -8), (check(0, 9, [9]), -1),
+                   (check(1, 9, [9] * 13), -1), (check(1, 9, [-1]), -1), (fair(1, 20), -8), (fair(0, 10), -1)]
+        behind = [*look(), next_unit(), heaps(), members(), recover(2), *look(), lose(7), *look(), close(), heaps(),
+                  begin(20), *look(), close(), heaps(), members(), member(30), begin(30), *look()]
         self.check(EVENT, refused, behind)
 
     def test_with_twelve_members(self):
@@ -185,12 +308,22 @@ class NothingChanges(unittest.TestCase):
         self.check(TWELVE, [(member(13, 9, 9, 9, 9), -9), (member(12, 9, 9, 9, 9), -2)], behind)
 
     def test_the_looks_themselves_change_nothing(self):
-        behind = [*look(), recover(2), *look(), close(), begin(20), *look()]
-        for call in look() + [share(4, 20)]:
-            with self.subTest(call=call):
-                seen = run(*EVENT, call, *behind)
-                seen.pop(len(EVENT))
-                self.assertEqual(seen, run(*EVENT, *behind))
+        behind = [*look(), next_unit(), heaps(), members(), recover(2), *look(), close(), heaps(), members(), begin(20),
+                  *look()]
+        without = run(*EVENT, *behind)
+        for call in look() + [share(4, 20)] + look_closely([0, 10, 20, 30], [0, 1, 5, 14, 99, LOSS]):
+            seen = run(*EVENT, call, *behind)
+            seen.pop(len(EVENT))
+            self.assertEqual(seen, without, call)
+
+    def test_they_may_stand_in_any_order(self):
+        calls = look_closely([0, 10, 20, 30], [0, 1, 5, 14, 99, LOSS])
+        told = run_in_lines(EVENT, calls)
+        self.assertEqual(run_in_lines(EVENT, calls[::-1]), told[::-1])
+
+    def test_with_no_event_open_heaps_and_members_change_nothing(self):
+        behind = [begin(20), lose(9), *look(), close(), heaps(), members()]
+        self.assertEqual(run(*TWO, heaps(), members(), members(), heaps(), *behind)[7:], run(*TWO, *behind)[3:])
 
 
 if __name__ == "__main__":

@@ -4,8 +4,8 @@ import itertools
 import random
 import unittest
 
-from tests.helper import (KEY, WEIGHT, begin, house, last, layer, lose, member, plain_shares, plain_takers, run, share,
-                          shares)
+from tests.helper import (KEY, WEIGHT, any_bearers, begin, house, last, layer, lose, member, plain_shares, plain_takers,
+                          run, share, shares)
 
 # The defaulter has nothing, so that the first unit of a loss is layer 4's.
 DEFAULTER = 999
@@ -103,10 +103,7 @@ class PlainCount(unittest.TestCase):
     def test_many_of_up_to_eleven_bearers(self):
         chance = random.Random(1)
         for _ in range(300):
-            keys = chance.sample(range(1, 30), chance.randint(1, 11))
-            weight = chance.choice([1, 2, 7, 30, WEIGHT])
-            most = chance.choice([1, 3, 8, 15])
-            self.check([(key, chance.randint(0, weight), chance.randint(0, most)) for key in keys])
+            self.check(any_bearers(chance))
 
     def test_layers_5_and_6_are_shared_the_same_way(self):
         chance = random.Random(2)
